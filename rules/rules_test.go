@@ -229,3 +229,79 @@ func isTable(e ast.Expr) bool {
 	})
 	return table
 }
+
+// tables are the names of a package's variables at package level.
+func tables(l []file) map[string]map[string]bool {
+	names := map[string]map[string]bool{}
+	for _, f := range l {
+		if names[f.pack] == nil {
+			names[f.pack] = map[string]bool{}
+		}
+		for _, d := range f.tree.Decls {
+			x, ok := d.(*ast.GenDecl)
+			if !ok || x.Tok != token.VAR {
+				continue
+			}
+			for _, s := range x.Specs {
+				for _, n := range s.(*ast.ValueSpec).Names {
+					names[f.pack][n.Name] = true
+				}
+			}
+		}
+	}
+	return names
+}
+
+// root is the name of the variable that an expression is a part of.
+func root(e ast.Expr) *ast.Ident {
+	switch x := e.(type) {
+	case *ast.Ident:
+		return x
+	case *ast.ParenExpr:
+		return root(x.X)
+	case *ast.IndexExpr:
+		return root(x.X)
+	case *ast.SelectorExpr:
+		return root(x.X)
+	}
+	return nil
+}
+
+// changed are the expressions that a statement or expression assigns to, takes the address of, or cuts a piece of.
+func changed(n ast.Node) []ast.Expr {
+	switch x := n.(type) {
+	case *ast.AssignStmt:
+		return x.Lhs
+	case *ast.IncDecStmt:
+		return []ast.Expr{x.X}
+	case *ast.RangeStmt:
+		return []ast.Expr{x.Key, x.Value}
+	case *ast.SliceExpr:
+		return []ast.Expr{x.X}
+	case *ast.UnaryExpr:
+		if x.Op == token.AND {
+			return []ast.Expr{x.X}
+		}
+	}
+	return nil
+}
+
+func TestTablesAreOnlyRead(t *testing.T) {
+	l := program(t)
+	names := tables(l)
+	for _, f := range l {
+		ast.Inspect(f.tree, func(n ast.Node) bool {
+			for _, e := range changed(n) {
+				v := root(e)
+				if v == nil || !names[f.pack][v.Name] {
+					continue
+				}
+				// One that is declared in another file of the package has no Obj; any other must be the table itself, not a local of its name.
+				if v.Obj == nil || f.tree.Scope.Lookup(v.Name) == v.Obj {
+					t.Errorf("%s: %s stands at package level, and is only read", f.row(v.Pos()), v.Name)
+				}
+			}
+			return true
+		})
+	}
+}

@@ -1,4 +1,4 @@
-// Package samples makes valid descriptions, for the tests of the layers that interpret them.
+// Package samples makes valid descriptions, and nodes of them, for the tests of the layers that interpret them.
 package samples
 
 import (

@@ -8,6 +8,7 @@ import (
 	"mortise/api"
 	"mortise/check"
 	"mortise/desc"
+	"mortise/layout"
 )
 
 // TestDescIsValid: all descriptions are valid, and there is much of everything that one may have.
@@ -46,6 +47,24 @@ func TestDescIsValid(t *testing.T) {
 	}
 	if at < 500 || shared < 200 || is < 500 || others < 200 {
 		t.Errorf("%d, %d, %d, %d", at, shared, is, others)
+	}
+}
+
+// TestNodeIsLaidOut: for most descriptions there soon is a node that can be laid out.
+func TestNodeIsLaidOut(t *testing.T) {
+	random := rand.New(rand.NewSource(15))
+	n := 0
+	for range 1000 {
+		d := Desc(random.Intn)
+		for range 20 {
+			if _, _, e := layout.Layout(d, Node(random.Intn, d), 10000); e == api.OK {
+				n++
+				break
+			}
+		}
+	}
+	if n < 700 {
+		t.Errorf("%d of 1000", n)
 	}
 }
 

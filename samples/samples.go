@@ -1,4 +1,4 @@
-// Package samples makes valid descriptions, and nodes of them, for the tests of the layers that interpret them.
+// Package samples makes valid descriptions, and nodes of them, and models and files of all formats, for tests.
 package samples
 
 import (
